@@ -1,0 +1,1 @@
+"""Toldback: fractions and quotients told back from what little is left of them."""
