@@ -6,7 +6,7 @@ import unittest
 from math import gcd, prod
 
 from things import GREAT_NUMBER, GREAT_PRIMES, anything, anything_with_lists, check_pure, check_refused
-from things import slow_back, slow_primes, slow_readings, slow_within
+from things import all_readings_by, slow_back, slow_primes, slow_readings, slow_within
 from toldback.allright import all_back, one_back
 from toldback.errors import NoBounds, NoReadings, TooFew
 from toldback.rests import is_fraction, not_kept
@@ -14,12 +14,6 @@ from toldback.rests import is_fraction, not_kept
 ELEVEN = [(p, 1) for p in GREAT_PRIMES + [2]]
 NO_READINGS = [(), ((3, 1),), [(3, 3)], [(3, -1)], [(3, True)], [(3, 1), (3, 1)], [(4, 1)], [[3, 1]], ELEVEN]
 NO_BOUNDS = [[1, 1], (-1, 1), (1, 0), (True, 1), (1, True), (1, -1), (1, 1, 1), (None, 1)]
-
-
-def all_readings_by(primes):
-    """All readings by the primes, in their order."""
-    choices = [[(p, rest) for rest in [None] + list(range(p))] for p in primes]
-    return [list(chosen) for chosen in itertools.product(*choices)]
 
 
 class OneBack(unittest.TestCase):

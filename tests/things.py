@@ -1,7 +1,9 @@
 """What several tests share: odd things of all kinds, and slow ways that are plainly right."""
 
 import copy
-from math import gcd
+import itertools
+from functools import cache
+from math import gcd, prod
 
 GREAT_PRIMES = [997, 991, 983, 977, 971, 967, 953, 947, 941, 937]
 GREAT_NUMBER = 10 ** 30 - 1
@@ -31,6 +33,7 @@ def slow_primes():
     return [number for number in range(2, 1000) if number not in struck]
 
 
+@cache
 def slow_rest(f, p):
     """The rest of a fraction by trying each."""
     fitting = [w for w in range(p) if (w * f[1] - f[0]) % p == 0]
@@ -45,10 +48,16 @@ def slow_readings(f, primes):
     return [(p, slow_rest(f, p)) for p in primes]
 
 
+@cache
+def all_within_once(n, d):
+    """All fractions within bounds, sorted, as a tuple."""
+    pairs = [(top, bottom) for top in range(-n, n + 1) for bottom in range(1, d + 1)]
+    return tuple(sorted([f for f in pairs if gcd(*f) == 1], key=lambda f: (f[1], f[0])))
+
+
 def slow_within(n, d):
     """All fractions within bounds, sorted."""
-    pairs = [(top, bottom) for top in range(-n, n + 1) for bottom in range(1, d + 1)]
-    return sorted([f for f in pairs if gcd(*f) == 1], key=lambda f: (f[1], f[0]))
+    return list(all_within_once(n, d))
 
 
 def slow_back(readings, n, d):
@@ -56,15 +65,61 @@ def slow_back(readings, n, d):
     return [f for f in slow_within(n, d) if all(slow_rest(f, p) == rest for p, rest in readings)]
 
 
+def slow_wrong(f, readings):
+    """How many of the readings a fraction does not keep."""
+    return sum(slow_rest(f, p) != rest for p, rest in readings)
+
+
+def slow_fitting(readings, n, d, e):
+    """All fractions within bounds that keep all but at most e readings, sorted."""
+    return [f for f in slow_within(n, d) if slow_wrong(f, readings) <= e]
+
+
+def all_readings_by(primes):
+    """All readings by the primes, in their order."""
+    choices = [[(p, rest) for rest in [None] + list(range(p))] for p in primes]
+    return [list(chosen) for chosen in itertools.product(*choices)]
+
+
+def slow_enough(primes, n, d, e):
+    """Whether each product of the primes, twice e of them left out, is above twice n times d."""
+    if 2 * e >= len(primes):
+        return False
+    return all(prod(kept) > 2 * n * d for kept in itertools.combinations(primes, len(primes) - 2 * e))
+
+
+def lists_within(thing):
+    """All lists and dicts that a thing is or holds, each as often as it does."""
+    if isinstance(thing, dict):
+        return [thing] + [found for part in thing.values() for found in lists_within(part)]
+    if isinstance(thing, (list, tuple)):
+        held = [found for part in thing for found in lists_within(part)]
+        return [thing] + held if isinstance(thing, list) else held
+    return []
+
+
+def spoil(thing):
+    """Changes every list and dict that a thing is or holds."""
+    for found in lists_within(thing):
+        if isinstance(found, dict):
+            found.clear()
+        else:
+            found.append("changed")
+            found.reverse()
+
+
 def check_pure(case, function, *arguments):
     """Checks that a call changes nothing handed in, and that changing its answer changes no later one."""
     ahead = copy.deepcopy(arguments)
     first = function(*arguments)
     case.assertEqual(repr(arguments), repr(ahead))
+    second = function(*arguments)
+    owned = [id(found) for found in lists_within((first, second, arguments))]
+    case.assertEqual(len(set(owned)), len(owned), "a list is shared")
     told = copy.deepcopy(first)
-    if isinstance(first, list):
-        first.append("changed")
-        first.reverse()
+    case.assertEqual(repr(second), repr(told))
+    spoil(first)
+    case.assertEqual(repr(second), repr(told))
     case.assertEqual(repr(function(*arguments)), repr(told))
     case.assertEqual(repr(arguments), repr(ahead))
     return told

@@ -21,6 +21,17 @@ def product_of(numbers):
     return product
 
 
+def choices(things, many):
+    """All lists of so many of the things, in their order, sorted by the places of the things."""
+    if many == 0:
+        return [[]]
+    return [
+        [things[place]] + behind
+        for place in range(len(things))
+        for behind in choices(things[place + 1:], many - 1)
+    ]
+
+
 def short_row(modulus, number, most):
     """The first remainder of Euclid's steps that is at most `most`, and its factor.
 
