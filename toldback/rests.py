@@ -1,7 +1,7 @@
 """Fractions, their rests by primes, readings and bounds."""
 
 from toldback.errors import NoBounds, NoFraction, NoPrime, NoReadings
-from toldback.wholes import common_divisor, inverse, is_whole
+from toldback.wholes import common_divisor, inverse, is_whole, is_whole_below
 
 PRIME_LIMIT = 1000
 MOST_READINGS = 10
@@ -74,9 +74,7 @@ def rests_of(f, primes):
 
 def is_rest(thing, p):
     """Whether it is a rest by the prime: a number from 0 to p - 1, or None."""
-    if thing is None:
-        return True
-    return is_whole(thing) and 0 <= thing < p
+    return thing is None or is_whole_below(thing, p)
 
 
 def is_reading(thing):

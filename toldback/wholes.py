@@ -6,6 +6,11 @@ def is_whole(thing):
     return isinstance(thing, int) and not isinstance(thing, bool)
 
 
+def is_whole_below(thing, limit):
+    """Whether it is a whole number from 0 to the limit less 1."""
+    return is_whole(thing) and 0 <= thing < limit
+
+
 def common_divisor(one, other):
     """The greatest number that divides both, the other one above 0."""
     while other != 0:
