@@ -52,8 +52,8 @@ def polys_up_to(degree, p):
 
 def quotients_within(degrees, p):
     """All quotients within the degrees, no two of them with one list."""
-    a, b = degrees
-    pairs = [(list(top), list(bottom)) for top in polys_up_to(a, p) for bottom in polys_up_to(b, p)]
+    tops, bottoms = polys_up_to(degrees[0], p), polys_up_to(degrees[1], p)
+    pairs = [(list(top), list(bottom)) for top in tops for bottom in bottoms]
     return [pair for pair in pairs if is_quotient_by(pair, p)]
 
 

@@ -90,7 +90,7 @@ def tied_together(worths, p):
     return shared, zero_at([x for x, w in others], p), through(others, p)
 
 
-def only_candidate(worths, p, most):
+def quotient_candidate(worths, p, most):
     """The only quotient that can be told back, most its top's degree and how many are wrong together.
 
     Top and bottom, both times what is nought at the wrong places, are the short
@@ -103,7 +103,7 @@ def only_candidate(worths, p, most):
 
 def only_fitting(worths, p, degrees, e):
     """The one quotient that fits, or None, where there are as many worths as are wanted."""
-    found = only_candidate(worths, p, degrees[0] + e)
+    found = quotient_candidate(worths, p, degrees[0] + e)
     if fits_worths(found, worths, p, degrees, e):
         return found
     return None
